@@ -1,0 +1,1 @@
+"""Rollcall: who meets whom, and what shows that nobody could do better."""
