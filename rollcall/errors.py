@@ -40,9 +40,9 @@ class TooFew(RollError):
 class Hindered(RollError):
 
     # Names may be none: where nobody is taken out there may be odd parts all the same.
-    def __init__(self, names=()):
+    def __init__(self, names=None):
         # A copy, so that a later change of the list handed in doesn't reach the error.
-        self.names = list(names)
+        self.names = [] if names is None else list(names)
 
 
 class NoRow(RollError):

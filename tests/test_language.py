@@ -80,6 +80,17 @@ def function_faults(node):
     return faults
 
 
+def is_plain_value(node):
+    if isinstance(node, ast.UnaryOp) and isinstance(node.op, ast.USub):
+        return isinstance(node.operand, ast.Constant) and type(node.operand.value) is int
+    return isinstance(node, ast.Constant) and type(node.value) in (int, str, bool, type(None))
+
+
+def default_faults(node):
+    given = [one for one in node.args.defaults + node.args.kw_defaults if one is not None]
+    return ["L4: a default that is no plain value" for one in given if not is_plain_value(one)]
+
+
 def class_faults(node):
     faults = []
     if node.decorator_list or node.keywords or len(node.bases) > 1:
@@ -135,7 +146,7 @@ def row_faults(node):
 
 BY_KIND = [
     (ast.FunctionDef, function_faults), (ast.ClassDef, class_faults), (ast.ImportFrom, import_faults),
-    (ast.Compare, compare_faults)]
+    (ast.Compare, compare_faults), (ast.FunctionDef, default_faults), (ast.Lambda, default_faults)]
 
 
 def top_faults(tree):
@@ -181,6 +192,28 @@ def own_methods(texts):
     return [row.name for node in nodes for row in node.body if isinstance(row, ast.FunctionDef)]
 
 
+def own_values(texts):
+    nodes = [node for text in texts for node in ast.walk(ast.parse(text)) if isinstance(node, ast.Attribute)]
+    return [node.attr for node in nodes if isinstance(node.ctx, ast.Store)]
+
+
+def kept_walks(text):
+    """L23: what is walked on the spot stands behind an in, or first in a call that walks it."""
+    walks = "zip enumerate reversed range items keys values".split()
+    takers = "list tuple dict sorted sum any all enumerate zip min max join".split()
+    tree = ast.parse(text)
+    walked = [node.iter for node in ast.walk(tree) if isinstance(node, (ast.For, ast.comprehension))]
+    calls = [node for node in ast.walk(tree) if isinstance(node, ast.Call)]
+    for call in calls:
+        if called_name(call) in takers:
+            walked.extend(call.args)
+    return [f"L23: {called_name(call)} kept" for call in calls if called_name(call) in walks and call not in walked]
+
+
+def called_name(call):
+    return getattr(call.func, "id", getattr(call.func, "attr", ""))
+
+
 class Language(unittest.TestCase):
 
     def test_the_package_keeps_to_the_rules(self):
@@ -189,6 +222,39 @@ class Language(unittest.TestCase):
         for name, text in texts.items():
             with self.subTest(file=name):
                 self.assertEqual(faults_of(text, own), [])
+
+    def test_every_default_of_the_package_is_a_plain_value(self):
+        for name, text in package_texts().items():
+            for node in ast.walk(ast.parse(text)):
+                if isinstance(node, (ast.FunctionDef, ast.Lambda)):
+                    with self.subTest(file=name, line=node.lineno):
+                        self.assertEqual(default_faults(node), [])
+
+    def test_no_name_is_a_method_and_a_value(self):
+        texts = package_texts().values()
+        self.assertEqual(sorted(set(own_methods(texts)) & set(own_values(texts))), [])
+
+    def test_what_is_walked_is_not_kept(self):
+        for name, text in package_texts().items():
+            with self.subTest(file=name):
+                self.assertEqual(kept_walks(text), [])
+        for text in ["def f(x):\n    y = range(x)\n    return y\n", "def f(x):\n    return x.items()\n"]:
+            self.assertEqual(len(kept_walks(text)), 1)
+
+    def test_plain_defaults_are_no_fault(self):
+        text = "def f(a, b=0, c=-1, d='', e='x', g=True, h=False, k=None):\n    return a\n"
+        self.assertEqual(faults_of(text), [])
+
+    def test_other_defaults_are_found(self):
+        for value in ["()", "(1,)", "[]", "[0]", "{}", "{'a': 1}", "{1}", "1.5", "-1.5", "b''", "...", "y", "list()",
+                      "1 + 1", "not True", "-True", "f'a'", "lambda: 0"]:
+            for text in [
+                    f"def f(x={value}):\n    return x\n", f"def f(x, z={value}, w=None):\n    return x\n",
+                    f"class A:\n    def f(self, x={value}):\n        return x\n",
+                    f"def f(w):\n    def g(x={value}):\n        return x\n    return g\n",
+                    f"def f(w):\n    return lambda x={value}: x\n"]:
+                with self.subTest(text=text):
+                    self.assertIn("L4: a default that is no plain value", faults_of(text))
 
     def test_nothing_but_plain_files_lies_in_the_package(self):
         names = [path.name for path in PACKAGE.iterdir() if path.name != "__pycache__"]
