@@ -7,65 +7,8 @@ import unittest
 from rollcall.growing import begin_trees, even_places, go_on, grown, odd_places
 from rollcall.nets import is_full, is_pairing, odd_parts
 from rollcall.web import EVEN, ODD, Web
-
-
-def all_links(n):
-    return [(u, v) for u in range(n) for v in range(u + 1, n)]
-
-
-def all_nets(n):
-    links = all_links(n)
-    return [list(some) for size in range(len(links) + 1) for some in itertools.combinations(links, size)]
-
-
-def pairings_of(links):
-    """All pairings of a net."""
-    if not links:
-        return [[]]
-    first = links[0]
-    apart = [link for link in links if not set(link) & set(first)]
-    return pairings_of(links[1:]) + [[first] + some for some in pairings_of(apart)]
-
-
-def least_worth(left, worry_of):
-    """The worth of a best full pairing of the places left; None where there is none."""
-    if not left:
-        return 0
-    worths = []
-    for number in range(1, len(left)):
-        if (left[0], left[number]) in worry_of:
-            rest = least_worth(left[1:number] + left[number + 1:], worry_of)
-            if rest is not None:
-                worths.append(rest + worry_of[left[0], left[number]])
-    return min(worths, default=None)
-
-
-def some_worries(n, share, most, chance):
-    told = [(u, v, chance.randint(-most, most)) for u, v in all_links(n) if chance.random() < share]
-    chance.shuffle(told)
-    return told
-
-
-def far_worries(n, near, chance):
-    """Points on a map, each linked to its nearest ones: such nets make many rings, and take some apart again."""
-    spots = [(chance.randrange(100), chance.randrange(100)) for place in range(n)]
-
-    def far(one, other):
-        return (spots[one][0] - spots[other][0]) ** 2 + (spots[one][1] - spots[other][1]) ** 2
-
-    links = set()
-    for place in range(n):
-        others = sorted([other for other in range(n) if other != place], key=lambda other: far(place, other))
-        links |= {(min(place, other), max(place, other)) for other in others[:near]}
-    return [(u, v, far(u, v)) for u, v in sorted(links)]
-
-
-def net_of(worries):
-    return [(u, v) for u, v, worry in worries]
-
-
-def price_on(u, v, prices, groups):
-    return prices[u] + prices[v] + sum(price for places, price in groups if (u in places) != (v in places))
+from samples import (
+    all_links, all_nets, far_worries, least_worth, net_of, pairings_of, places_of, price_on, some_worries, worth_of)
 
 
 class Ended(unittest.TestCase):
@@ -75,8 +18,7 @@ class Ended(unittest.TestCase):
         pairing = web.pairing()
         prices = web.prices()
         groups = web.groups()
-        worry_of = {(u, v): worry for u, v, worry in worries}
-        worth = sum(worry_of[link] for link in pairing)
+        worth = worth_of(worries, pairing)
         self.assertTrue(is_full(n, net_of(worries), pairing))
         self.assertEqual(pairing, sorted(pairing))
         self.assertEqual(len(prices), n)
@@ -118,7 +60,7 @@ class Largest(Ended):
         alone = set()
         for some in pairings:
             if len(some) == most:
-                alone |= set(range(n)) - {place for link in some for place in link}
+                alone |= set(range(n)) - set(places_of(some))
         self.assertEqual(len(web.pairing()), most, links)
         self.assertEqual(even_places(web), sorted(alone), links)
         self.checked(n, [(u, v, 0) for u, v in links])
@@ -177,14 +119,14 @@ class Best(Ended):
     def test_every_worries_of_nought_and_one_on_four_places(self):
         for worries in itertools.product([None, 0, 1], repeat=6):
             some = [(u, v, worry) for (u, v), worry in zip(all_links(4), worries) if worry is not None]
-            self.assertEqual(self.checked(4, some), least_worth([0, 1, 2, 3], {(u, v): w for u, v, w in some}))
+            self.assertEqual(self.checked(4, some), least_worth(4, some))
 
     def test_no_full_pairing_is_better(self):
         chance = random.Random(12)
         for number in range(1500):
             n = chance.randrange(2, 9)
             worries = some_worries(n, chance.choice([0.4, 0.7, 1]), chance.choice([1, 3, 20, 10 ** 59]), chance)
-            worth = least_worth(list(range(n)), {(u, v): worry for u, v, worry in worries})
+            worth = least_worth(n, worries)
             self.assertEqual(self.checked(n, worries), worth, worries)
 
     def test_on_a_map(self):
@@ -192,7 +134,7 @@ class Best(Ended):
         for number in range(150):
             n = chance.choice([8, 10])
             worries = far_worries(n, chance.choice([2, 3, 4]), chance)
-            worth = least_worth(list(range(n)), {(u, v): worry for u, v, worry in worries})
+            worth = least_worth(n, worries)
             self.assertEqual(self.checked(n, worries), worth, worries)
 
     def test_forty_places_and_somewhat_more(self):

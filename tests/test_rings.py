@@ -6,23 +6,13 @@ import unittest
 
 from rollcall.nets import is_full
 from rollcall.rings import rings, turned
-
-
-def full_pairings(places):
-    """All full pairings of the places, each in order of its first places."""
-    if not places:
-        return [[]]
-    told = []
-    for number in range(1, len(places)):
-        for rest in full_pairings(places[1:number] + places[number + 1:]):
-            told.append([(places[0], places[number])] + rest)
-    return told
+from samples import all_links, full_pairings
 
 
 def all_twos(most):
     """All two full pairings of the same places, of up to so many places."""
     for n in range(0, most + 1, 2):
-        pairings = full_pairings(list(range(n)))
+        pairings = full_pairings(list(range(n)), all_links(n))
         for one in pairings:
             for other in pairings:
                 yield n, one, other
