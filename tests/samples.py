@@ -1,4 +1,4 @@
-"""Nets and worries for the tests, and their pairings, found by trying them all."""
+"""Nets, worries and turns for the tests, and the pairings of nets, found by trying them all."""
 
 import itertools
 
@@ -79,3 +79,13 @@ def far_worries(n, near, chance):
         others = sorted([other for other in range(n) if other != place], key=lambda other: far(place, other))
         links |= {(min(place, other), max(place, other)) for other in others[:near]}
     return [(u, v, far(u, v)) for u, v in sorted(links)]
+
+
+def some_turn(names, chance):
+    """A turn in which some of the names meet, and perhaps one rests."""
+    names = list(names)
+    chance.shuffle(names)
+    count = chance.randrange(len(names) // 2 + 1)
+    tables = [(names[2 * number], names[2 * number + 1], chance.choice([0, 1, 2, None])) for number in range(count)]
+    rest = names[2 * count:2 * count + 1] if chance.random() < 0.5 else []
+    return tables + [(name, "", 2) for name in rest]

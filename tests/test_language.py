@@ -210,6 +210,18 @@ def kept_walks(text):
     return [f"L23: {called_name(call)} kept" for call in calls if called_name(call) in walks and call not in walked]
 
 
+def hiding_names(text):
+    """L15: a parameter or a local that is called like a class or an import of its file."""
+    tree = ast.parse(text)
+    taken = [row.name for row in tree.body if isinstance(row, ast.ClassDef)]
+    for row in tree.body:
+        if isinstance(row, ast.ImportFrom):
+            taken.extend([one.name for one in row.names])
+    nodes = [node for node in ast.walk(tree) if isinstance(node, (ast.Name, ast.arg))]
+    bound = [names_of(node)[0] for node in nodes if isinstance(node, ast.arg) or isinstance(node.ctx, ast.Store)]
+    return [f"L15: the name {name}" for name in bound if name in taken]
+
+
 def called_name(call):
     return getattr(call.func, "id", getattr(call.func, "attr", ""))
 
@@ -240,6 +252,16 @@ class Language(unittest.TestCase):
                 self.assertEqual(kept_walks(text), [])
         for text in ["def f(x):\n    y = range(x)\n    return y\n", "def f(x):\n    return x.items()\n"]:
             self.assertEqual(len(kept_walks(text)), 1)
+
+    def test_no_local_hides_a_class_or_an_import(self):
+        for name, text in package_texts().items():
+            with self.subTest(file=name):
+                self.assertEqual(hiding_names(text), [])
+        begin = "from rollcall.cards import card\nclass Deal:\n    pass\n"
+        for text in ["def f(card):\n    return card\n", "def f(x):\n    card = x\n    return card\n",
+                     "def f(x):\n    return [card for card in x]\n", "def f(x):\n    return lambda Deal: x\n",
+                     "def f(x):\n    for y, card in x:\n        f(y)\n"]:
+            self.assertEqual(len(hiding_names(begin + text)), 1, text)
 
     def test_plain_defaults_are_no_fault(self):
         text = "def f(a, b=0, c=-1, d='', e='x', g=True, h=False, k=None):\n    return a\n"
