@@ -5,7 +5,7 @@ import random
 import unittest
 
 from rollcall.cards import card, standing
-from samples import some_turn
+from samples import all_cards, empty, some_turn
 
 # Names that are parts of one another, and such as are one or twelve letters long.
 NAMES = ["ann", "bob", "cid", "dan", "eve", "a", "an", "anna", "nna", "b", "zzzzzzzzzzzz", "zzzzzzzzzzz"]
@@ -14,29 +14,6 @@ TURNS = [
     [("bob", "cid", 0), ("eve", "ann", 0), ("dan", "", 2)],
     [],
     [("dan", "eve", None), ("cid", "ann", 1)]]
-
-
-def empty(name):
-    return (name, 0, "", (), False, ())
-
-
-def with_table(kept, number, window, door, won):
-    """The cards, a dict by names, with one table more."""
-    if door == "":
-        name, points, sides, met, rested, tables = kept[window]
-        kept[window] = (name, points + 2, sides, met, True, tables)
-        return
-    for one, other, side, gained in [(window, door, "w", won), (door, window, "d", None if won is None else 2 - won)]:
-        name, points, sides, met, rested, tables = kept[one]
-        kept[one] = (name, points + (gained or 0), sides + side, met + (other,), rested, tables + (number,))
-
-
-def all_cards(turns, names):
-    kept = {name: empty(name) for name in names}
-    for turn in turns:
-        for number, (window, door, won) in enumerate(turn):
-            with_table(kept, number, window, door, won)
-    return kept
 
 
 class Card(unittest.TestCase):

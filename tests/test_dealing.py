@@ -6,6 +6,7 @@ import random
 import unittest
 
 from rollcall.dealing import dealt
+from samples import Case, least_sum, sum_at
 
 BIG = 10 ** 60 - 1
 
@@ -14,39 +15,19 @@ def some_costs(m, low, high, chance):
     return [[chance.randint(low, high) for column in range(m)] for row in range(m)]
 
 
-def sum_at(costs, places):
-    return sum(costs[row][column] for row, column in enumerate(places))
-
-
-def least_sum(costs):
-    return min(sum_at(costs, places) for places in itertools.permutations(range(len(costs))))
-
-
 def hidden(places, inside, outside):
     """Costs that are inside at the places, outside elsewhere."""
     m = len(places)
     return [[inside if places[row] == column else outside for column in range(m)] for row in range(m)]
 
 
-class Checked(unittest.TestCase):
+class Checked(Case):
 
     def checked(self, costs):
         kept = copy.deepcopy(costs)
         told = dealt(costs)
         self.assertEqual(costs, kept)
-        self.assertIs(type(told), tuple)
-        self.assertEqual(len(told), 3)
-        for numbers in told:
-            self.assertIs(type(numbers), list)
-            self.assertEqual(len(numbers), len(costs))
-            self.assertTrue(all(type(number) is int for number in numbers), numbers)
-        places, ones, others = told
-        self.assertEqual(sorted(places), list(range(len(costs))))
-        for row, column in itertools.product(range(len(costs)), repeat=2):
-            self.assertLessEqual(ones[row] + others[column], costs[row][column], (costs, told))
-        for row, column in enumerate(places):
-            self.assertEqual(ones[row] + others[column], costs[row][column], (costs, told))
-        self.assertEqual(sum(ones) + sum(others), sum_at(costs, places))
+        self.dealing_holds(costs, told)
         return told
 
     def least(self, costs):

@@ -149,8 +149,25 @@ BY_KIND = [
     (ast.Compare, compare_faults), (ast.FunctionDef, default_faults), (ast.Lambda, default_faults)]
 
 
-def top_faults(tree):
+def top_value_faults(tree):
+    """L3, L15: plain values, and tuples, lists and dicts of these and of functions above, no list or dict within."""
     faults = []
+    functions = []
+    for row in tree.body:
+        if isinstance(row, ast.FunctionDef):
+            functions.append(row.name)
+        if isinstance(row, ast.Assign):
+            nodes = [node for node in ast.walk(row.value) if not isinstance(node, (ast.Load, ast.USub))]
+            plain = [is_plain_value(node) or isinstance(node, (ast.Tuple, ast.List, ast.Dict)) or (
+                isinstance(node, ast.Name) and node.id in functions) for node in nodes]
+            inner = [node for node in nodes if isinstance(node, (ast.List, ast.Dict)) and node != row.value]
+            if not all(plain) or inner:
+                faults.append(f"L3, L15: the value of line {row.lineno}")
+    return faults
+
+
+def top_faults(tree):
+    faults = top_value_faults(tree)
     names = []
     for number, row in enumerate(tree.body):
         if isinstance(row, (ast.FunctionDef, ast.ClassDef)):
@@ -263,6 +280,11 @@ class Language(unittest.TestCase):
                      "def f(x):\n    for y, card in x:\n        f(y)\n"]:
             self.assertEqual(len(hiding_names(begin + text)), 1, text)
 
+    def test_plain_values_at_the_top_are_no_fault(self):
+        for text in ["x = -1\n", "x = 'a'\n", "x = (1, ('a', None))\n", "x = [(1, 2), True]\n", "x = {'a': (1,)}\n",
+                     "def f(x):\n    return x\n\n\ny = {'a': f}\n"]:
+            self.assertEqual(faults_of(text), [], text)
+
     def test_plain_defaults_are_no_fault(self):
         text = "def f(a, b=0, c=-1, d='', e='x', g=True, h=False, k=None):\n    return a\n"
         self.assertEqual(faults_of(text), [])
@@ -304,7 +326,8 @@ class Language(unittest.TestCase):
                 "class A(int, str):\n    pass\n", "class A:\n    x = 1\n", "def f(x):\n    x.sort()\n",
                 "def f(x):\n    assert x\n", "def f(x):\n    x = y = 1\n", "# a type\n", "# \u00e4\n", "x = 1\t\n",
                 "def f(n):\n    return 2 ** n\n", "def f(x):\n    'does'\n", "def f(x):\n    _y = x\n",
-                "x = [u for v in [1] for u in [2]]\n", "# " + "x" * 120 + "\n", "x = 1\n" + "\n" * 400,
+                "x = [u for v in [1] for u in [2]]\n", "y = 1\nx = (y, 2)\n", "x = 10 ** 6\n", "x = [[1]]\n",
+                "x = {1: [2]}\n", "x = len([1])\n", "x = ([1], 2)\n", "# " + "x" * 120 + "\n", "x = 1\n" + "\n" * 400,
                 "def f(x):\n" + "    f(x)\n" * 40, "def f(x):\n    for y in x:\n        pass\n    else:\n        f(y)\n"]:
             with self.subTest(text=text[:60]):
                 self.assertNotEqual(faults_of(text), [])

@@ -3,63 +3,13 @@
 import copy
 import itertools
 import random
-import re
 import unittest
 
 from rollcall.cards import card
 from rollcall.wishes import at_window, bound, lean, may_meet, wish
+from samples import bound_by, card_of, keeps, leans_of, seated_by, texts, wish_by
 
 BIG = 10 ** 60 - 1
-
-
-def texts(most):
-    return ["".join(signs) for size in range(most + 1) for signs in itertools.product("wd", repeat=size)]
-
-
-def card_of(name, sides, met=(), points=0, rested=False, tables=()):
-    return (name, points, sides, met, rested, tables)
-
-
-def leans_of(sides):
-    """The leans of all begins, the one without signs among them."""
-    return list(itertools.accumulate([1 if sign == "w" else -1 for sign in sides], initial=0))
-
-
-def bound_by(sides):
-    last = leans_of(sides)[-1]
-    if abs(last) >= 2:
-        return "wd"[last > 0]
-    ends = re.search("(ww|dd)$", sides)
-    return {"w": "d", "d": "w"}[ends.group(1)[0]] if ends else ""
-
-
-def wish_by(sides):
-    last = leans_of(sides)[-1]
-    if bound_by(sides) or not sides:
-        return bound_by(sides)
-    return "wd"[last > 0] if last else "wd"[sides[-1] == "w"]
-
-
-def keeps(sides):
-    """No begin leans above 2 or below -2, and no sign comes three times one behind the other."""
-    return all(-2 <= one <= 2 for one in leans_of(sides)) and "www" not in sides and "ddd" not in sides
-
-
-def seated_by(one, other, turn):
-    """Whether the first sits at the window, by the three ways of point 22."""
-    wishes = wish_by(one) + "-" + wish_by(other)
-    if wishes in ["w-d", "w-", "-d"]:
-        return True
-    if wishes in ["d-w", "d-", "-w"]:
-        return False
-    if wishes == "-":
-        return turn % 2 == 0
-    strength = [(bool(bound_by(sides)), abs(leans_of(sides)[-1])) for sides in (one, other)]
-    if strength[0][0] != strength[1][0]:
-        first = strength[0][0]
-    else:
-        first = strength[0][1] >= strength[1][1]
-    return first if wishes == "w-w" else not first
 
 
 class Sides(unittest.TestCase):

@@ -3,13 +3,10 @@
 import unittest
 
 from rollcall.words import is_name, is_whole
+from samples import NO_TEXTS
 
 SMALL = "abcdefghijklmnopqrstuvwxyz"
 OTHER_SIGNS = [chr(code) for code in range(ord(" "), ord("~") + 1) if chr(code) not in SMALL]
-NO_TEXTS = [
-    None, True, False, 0, 1, -1, 12, 10 ** 59,
-    [], (), ["ann"], ("ann",), ["a", "b"], ("a", "b"), [1], (1,), [None], (True,), [[["ann"]]], ((("ann",),),),
-    [("ann", 1), [2, "bob"]], list("ann"), tuple("ann")]
 
 
 class Wholes(unittest.TestCase):
